@@ -1,0 +1,1 @@
+"""Firsthand: what is sure of a lost first text."""
