@@ -100,11 +100,10 @@ def rows_through(came, ways, triple, step):
 
 
 def confused(pairs_of_rows):
-    """Return the answer for the first pair of rows with different exemplars."""
-    for one, two in pairs_of_rows:
-        if row_exemplar(one) != row_exemplar(two):
-            return Confusion(False, one, two, ())
-    return Confusion(True, None, None, ())
+    """Return the answer for the first pair of rows with different exemplars; there is one."""
+    differing = [pair for pair in pairs_of_rows if row_exemplar(pair[0]) != row_exemplar(pair[1])]
+    one, two = differing[0]
+    return Confusion(False, one, two, ())
 
 
 def confusion(hand):

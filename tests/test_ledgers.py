@@ -26,14 +26,18 @@ class LedgerTest(FamilyCase):
     def test_all_deeds(self):
         ledger = Ledger(Family("ab"))
         deeds = [
-            X, ("joined", "j", "x", "first", None, 1), ("conflated", "c", "x", "j", 0, 99), ("corrected", "k", "x", "x", 9, 0),
+            X, ("joined", "j", "x", "first", None, 1), ("conflated", "c", "x", "j", 0, 99), ("corrected", "k", "j", "x", 9, 0),
             ("found", "x", A), ("found", "x", B), ("found", "j", B), ("lost", "j"), ("without", "c"),
         ]
         for at, deed in enumerate(deeds):
             self.assertIsNone(ledger.enter(list(deed) if at % 2 else deed))
             self.assertEqual((ledger.deeds, len(ledger)), (tuple(deeds[:at + 1]), at + 1))
+            if at == 3:
+                family_after_four = ledger.known
         family = Family("ab").copied("x", "first", FAITHFUL).joined("j", "x", "first").conflated("c", "x", "j", most=0, cost=99)
-        family = family.corrected("k", "x", "x", most=9, cost=0).found("x", A & B).without("c")
+        family = family.corrected("k", "j", "x", most=9, cost=0)
+        self.assertEqual(family_after_four, family)
+        family = family.found("x", A & B).without("c")
         self.assertEqual(ledger.known, family)
         self.assertEqual(ledger.family, family)
         self.assertEqual(ledger.began, Family("ab"))
