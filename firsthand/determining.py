@@ -11,14 +11,19 @@ The nodes in which a net may be are written as the bits of a number.
 from firsthand.machines import reached_from
 
 
+def nodes_before(arcs):
+    """Return for each node the nodes whose arcs lead to it."""
+    found = [[] for row in arcs]
+    for node, row in enumerate(arcs):
+        for label, target in row:
+            found[target].append(node)
+    return found
+
+
 def useful_net(net):
     """Return the net without the arcs to nodes from which no end is reached."""
     ends, arcs = net
-    sources = [[] for row in arcs]
-    for node, row in enumerate(arcs):
-        for label, target in row:
-            sources[target].append(node)
-    live = reached_from([node for node in range(len(ends)) if ends[node]], sources)
+    live = reached_from([node for node in range(len(ends)) if ends[node]], nodes_before(arcs))
     return ends, [[(label, target) for label, target in row if target in live] for row in arcs]
 
 

@@ -90,11 +90,10 @@ class Family:
         check_name(self, name)
         if name == FIRST or self.users(name):
             raise StillUsed(name)
-        at = self._names.index(name)
-        makings = self._makings[:at - 1] + self._makings[at:]
-        return assembled(
-            self.alphabet, self._names[:at] + self._names[at + 1:], makings, self._finds[:at] + self._finds[at + 1:]
-        )
+        names = [other for other in self._names if other != name]
+        makings = [making for other, making in zip(self.made, self._makings) if other != name]
+        finds = [texts for other, texts in zip(self._names, self._finds) if other != name]
+        return assembled(self.alphabet, names, makings, finds)
 
     @property
     def names(self):
@@ -115,8 +114,10 @@ class Family:
 
     def kept(self, name):
         """Return the set that is kept of the copy, or None."""
-        check_name(self, name)
-        return self._finds[self._names.index(name)]
+        for other, texts in zip(self._names, self._finds):
+            if other == name:
+                return texts
+        raise UnknownCopy(name)
 
     def users(self, name):
         """Return the names of the copies that have this name among their exemplars."""

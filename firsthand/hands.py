@@ -106,16 +106,21 @@ def fault_net(alphabet, faults):
     return [node == 0 for node in range(len(arcs))], arcs
 
 
+def written_further(hand, ways, letter):
+    """Return the triples (copy, cost, state) after one more letter was read, each once."""
+    found = {}
+    for copy, cost, state in ways:
+        for rule in hand.rules_for(state, letter):
+            found[(copy + rule[2], cost + rule[3], rule[4])] = True
+    return list(found)
+
+
 def writings(hand, state, text):
     """Return triples (copy, cost, state) for all ways in which the hand reads the text, each once."""
-    found = {("", 0, state): True}
+    ways = [("", 0, state)]
     for letter in text:
-        fresh = {}
-        for copy, cost, here in found:
-            for rule in hand.rules_for(here, letter):
-                fresh[(copy + rule[2], cost + rule[3], rule[4])] = True
-        found = fresh
-    return list(found)
+        ways = written_further(hand, ways, letter)
+    return ways
 
 
 def joined_net(one, two):

@@ -6,11 +6,16 @@ from firsthand.places import begun, check_end, place_done
 from firsthand.values import frozen
 
 
+def check_columns(first, columns):
+    """Raise BadHistory if there are not as many columns as places."""
+    if len(first) != len(columns):
+        raise BadHistory(min(len(first), len(columns)), FIRST)
+
+
 def followed(family, history):
     """Return the blocks of all names and the cost of each place, or raise BadHistory."""
     first, columns = frozen(history)
-    if len(first) != len(columns):
-        raise BadHistory(min(len(first), len(columns)), FIRST)
+    check_columns(first, columns)
     rows = []
     costs = []
     standing = begun(family)
@@ -40,7 +45,8 @@ def is_let(family, history):
 def text_of(family, history, name):
     """Return the text of a copy."""
     check_name(family, name)
-    return "".join(blocks(family, history)[family.names.index(name)])
+    rows = dict(zip(family.names, blocks(family, history)))
+    return "".join(rows[name])
 
 
 def slips_of(family, history, name):
@@ -49,8 +55,7 @@ def slips_of(family, history, name):
     blocks(family, history)
     if name == FIRST:
         return 0
-    at = family.made.index(name)
-    entries = [column[at] for column in history[1]]
+    entries = [dict(zip(family.made, column))[name] for column in history[1]]
     kind = family.making(name)[0]
     if kind == "copied":
         return sum([len([cost for _, cost in entry if cost >= 1]) for entry in entries])

@@ -36,19 +36,25 @@ def hand_wrote(hand, state, read, entry):
     return "".join(written), total, here
 
 
+def entry_slips(making, maker, entry):
+    """Return the number of slips of an entry with which a copy goes on from this maker."""
+    if making[0] == "copied":
+        return len([cost for block, cost in entry if cost >= 1])
+    if making[0] == "joined":
+        return 0 if maker[0] is None or maker[0] == entry else 1
+    return entry
+
+
 def sides_met(making, left, right, maker, side):
     """Return the block, the cost and the next pair (last, used) of a meeting, or None if it has no such side."""
     kind = making[0]
     most = making[3]
-    last, used = maker
     if side not in (0, 1):
         return None
-    if kind == "joined":
-        slips = 0 if last is None or last == side else 1
-    else:
-        slips = side
-        if side == 1 and left == right:
-            return None
+    if kind != "joined" and side == 1 and left == right:
+        return None
+    used = maker[1]
+    slips = entry_slips(making, maker, side)
     if most is not None and used + slips > most:
         return None
     block = right if side == 1 else left
@@ -56,6 +62,26 @@ def sides_met(making, left, right, maker, side):
         block = left + right
     after = (side if kind == "joined" else None, 0 if most is None else used + slips)
     return block, slips * making[4], after
+
+
+def read_further(hand, ways, letter):
+    """Return the ways (entry, block, cost, state) after one more letter was read, in order."""
+    found = []
+    for entry, block, cost, state in ways:
+        for rule in hand.rules_for(state, letter):
+            found.append(((*entry, (rule[2], rule[3])), block + rule[2], cost + rule[3], rule[4]))
+    return found
+
+
+def ways_of(making, maker, left, right):
+    """Return (entry, block, cost, maker) for all that a copy can do where its exemplars have these blocks, in order."""
+    if making[0] == "copied":
+        ways = [((), "", 0, maker)]
+        for letter in left:
+            ways = read_further(making[2], ways, letter)
+        return ways
+    met = [(side, sides_met(making, left, right, maker, side)) for side in range(2)]
+    return [(side, *made) for side, made in met if made is not None]
 
 
 def made_at(making, found, maker, entry):
@@ -93,6 +119,14 @@ def place_done(family, standing, place, letter, column):
             raise BadHistory(place, name)
         states_after.append(state)
     return tuple([found[name] for name in family.names]), total, (tuple(makers_after), tuple(states_after))
+
+
+def column_slips(family, standing, column):
+    """Return for each name the number of its slips at the next place; the first text has none."""
+    slips = [0]
+    for name, maker, entry in zip(family.made, standing[0], column):
+        slips.append(entry_slips(family.making(name), maker, entry))
+    return tuple(slips)
 
 
 def check_end(family, standing, place):

@@ -30,6 +30,6 @@ def contracted(family, name):
     if other[0] != "copied":
         raise CannotContract(name)
     names = [left for left in family.names if left != name]
-    makings = [family.making(left) for left in names[1:]]
-    makings[names.index(users[0]) - 1] = ("copied", making[1], making[2] >> other[2])
+    joined = ("copied", making[1], making[2] >> other[2])
+    makings = [joined if left == users[0] else family.making(left) for left in names[1:]]
     return assembled(family.alphabet, names, makings, [family.kept(left) for left in names])

@@ -34,6 +34,52 @@ FUNCTIONS = {
         "blocks(family, history)", "is_let(family, history)", "text_of(family, history, name)",
         "slips_of(family, history, name)", "cost_of(family, history)",
     ],
+    "standings": [
+        "start_standing(family)", "moves(family, standing, letter)", "follow(family, standing, letter, column)",
+        "is_end(family, standing)", "standing_of(family, history)",
+    ],
+    "shortening": ["shortened(family, history, names)"],
+    "claims": ["check_claim(family, claim)"],
+    "marks": [
+        "mark_start(claim)", "mark_after(family, claim, mark, standing, letter, column)", "mark_holds(claim, mark)",
+        "holds(family, history, claim)",
+    ],
+    "tracks": ["start_track(family, claim)", "track_moves(family, claim, track, letter)", "is_full(family, claim, track)"],
+    "walks": [
+        "reachable(family, *, supposed=None)", "is_closed(family, table, *, supposed=None)",
+        "least_history(family, *, supposed=None)", "histories(family, *, places, supposed=None)",
+        "count_histories(family, *, places, supposed=None)", "refutation(family, *, supposed=None)",
+        "is_refutation(family, table, *, supposed=None)",
+    ],
+    "possible": ["possible(family, name, *, supposed=None)", "history_with(family, name, text, *, supposed=None)"],
+    "verdicts": [
+        "verdict(family, claim, *, supposed=None)", "is_verdict_table(family, claim, word, table, *, supposed=None)",
+    ],
+    "sureness": [
+        "sure_text(family, name, *, supposed=None)", "sure_equal(family, one, two, *, supposed=None)",
+        "least_apart(family, one, two, *, supposed=None)",
+    ],
+    "settling": ["settling(family, name, claim, *, supposed=None)", "decides(family, name, claim, *, supposed=None)"],
+    "finds": ["fewest_finds(family, claim, *, supposed=None)", "needless_finds(family, claim, *, supposed=None)"],
+    "courses": ["course(ledger, claim)"],
+    "prices": [
+        "prices(family, *, supposed=None)", "least_cost(family, *, supposed=None)",
+        "cheapest_history(family, *, supposed=None)", "is_price_table(family, table, cost, *, supposed=None)",
+    ],
+    "readings": [
+        "readings(family, name, place, *, supposed=None)", "margin(family, name, place, *, supposed=None)",
+        "history_reading(family, name, place, block, *, supposed=None)",
+    ],
+    "excess": ["excess(family, claim, *, supposed=None)"],
+    "rebuilding": ["rebuilt(family, name, *, supposed=None)", "apparatus(family, name, *, supposed=None)"],
+    "profiles": [
+        "cost_profile(family, *, places, supposed=None)", "slip_range(family, name, *, supposed=None)",
+        "cost_range(family, *, supposed=None)",
+    ],
+    "stems": [
+        "stems(catalogue)", "is_stem(catalogue, stem)", "stem_family(catalogue, stem)", "explaining(catalogue)",
+    ],
+    "needs": ["needs(catalogue)", "with_copy(catalogue, name)", "without_copy(catalogue, name)"],
 }
 
 METHODS = {
@@ -54,6 +100,14 @@ METHODS = {
         "without(self, name)", "making(self, name)", "kept(self, name)", "users(self, name)", "__iter__(self)",
         "__len__(self)", "__contains__(self, name)", "__eq__(self, other)",
     ],
+    ("claims", "Claim"): [
+        "__and__(self, other)", "__or__(self, other)", "__invert__(self)", "__eq__(self, other)", "of(cls, tree)",
+        "lies(name, texts)", "reads(name, place, block)", "apart(one, two, most)", "slips(name, most)", "costs(most)",
+        "shows(names, collation)",
+    ],
+    ("catalogues", "Catalogue"): [
+        "__init__(self, alphabet, entries, finds)", "with_find(self, name, texts)", "with_way(self, name, making)",
+    ],
     ("ledgers", "Ledger"): ["__init__(self, family)", "enter(self, deed)", "undo(self)", "__len__(self)"],
     ("ledgers", "Trial"): ["__init__(self, ledger)", "__enter__(self)", "__exit__(self, kind, value, trace)"],
     ("ledgers", "Supposing"): [
@@ -63,14 +117,20 @@ METHODS = {
 
 PROPERTIES = {
     ("textsets", "TextSet"): ["is_empty"], ("hands", "Hand"): ["strokes"], ("families", "Family"): ["names", "made"],
-    ("ledgers", "Ledger"): ["deeds", "known", "family"],
+    ("ledgers", "Ledger"): ["deeds", "known", "family"], ("claims", "Claim"): ["atoms"],
+    ("catalogues", "Catalogue"): ["found_copies", "lost_copies"],
 }
 
-CLASS_METHODS = {("hands", "Hand"): ["faithful", "of_faults"]}
+CLASS_METHODS = {("hands", "Hand"): ["faithful", "of_faults"], ("claims", "Claim"): ["of"]}
 
-ANSWERS = [("inclusions", "Inclusion"), ("partings", "Parting"), ("confusions", "Confusion")]
+STATIC_METHODS = {("claims", "Claim"): ["lies", "reads", "apart", "slips", "costs", "shows"]}
 
-GENERATORS = [("setasking", "members"), ("cuttings", "cuttings"), ("handrows", "rows_between")]
+ANSWERS = [("inclusions", "Inclusion"), ("partings", "Parting"), ("confusions", "Confusion"), ("verdicts", "Verdict")]
+
+GENERATORS = [
+    ("setasking", "members"), ("cuttings", "cuttings"), ("handrows", "rows_between"), ("walks", "histories"),
+    ("courses", "course"), ("stems", "stems"), ("stems", "explaining"),
+]
 
 
 def module_of(name):
@@ -101,6 +161,9 @@ class InterfaceTest(unittest.TestCase):
         for (file, name), listed in CLASS_METHODS.items():
             for word in listed:
                 self.assertIsInstance(vars(getattr(module_of(file), name))[word], classmethod)
+        for (file, name), listed in STATIC_METHODS.items():
+            for word in listed:
+                self.assertIsInstance(vars(getattr(module_of(file), name))[word], staticmethod)
 
     def test_answers(self):
         for file, name in ANSWERS:

@@ -46,6 +46,28 @@ def own_generators():
     return {f.name for _, f in functions() if any(isinstance(part, (ast.Yield, ast.YieldFrom)) for part in ast.walk(f))}
 
 
+def base_name(node):
+    """The name whose list or dict, or an item of it, is changed by the node, or None."""
+    if isinstance(node, ast.Call) and isinstance(node.func, ast.Attribute) and node.func.attr in CHANGES:
+        base = node.func.value
+    elif isinstance(node, ast.Call) and isinstance(node.func, ast.Name) and node.func.id in LIBRARY["heapq"]:
+        base = node.args[0]
+    elif isinstance(node, ast.Subscript) and isinstance(node.ctx, (ast.Store, ast.Del)):
+        base = node.value
+    else:
+        return None
+    while isinstance(base, (ast.Subscript, ast.Attribute, ast.Call)):
+        base = base.func if isinstance(base, ast.Call) else base.value
+    return getattr(base, "id", None)
+
+
+def is_inside(node):
+    """Whether the node changes an item of an item of a name."""
+    if isinstance(node, ast.Call) and isinstance(node.func, ast.Attribute) and node.func.attr in CHANGES - {"setdefault"}:
+        return isinstance(node.func.value, (ast.Subscript, ast.Call))
+    return isinstance(node, ast.Subscript) and isinstance(node.ctx, (ast.Store, ast.Del)) and isinstance(node.value, ast.Subscript)
+
+
 def where(stem, node):
     return f"{stem}.py:{node.lineno}"
 
@@ -231,8 +253,9 @@ class StatementsTest(unittest.TestCase):
             self.assertIn(node.exc.func.id, own, where(stem, node))
             self.assertFalse(node.exc.keywords)
         for stem, node in nodes(ast.ExceptHandler):
-            self.assertIsInstance(node.type, ast.Name, where(stem, node))
-            self.assertIn(node.type.id, own, where(stem, node))
+            for part in node.type.elts if isinstance(node.type, ast.Tuple) else [node.type]:
+                self.assertIsInstance(part, ast.Name, where(stem, node))
+                self.assertIn(part.id, own, where(stem, node))
 
     def test_views_and_generators_are_iterated_at_once(self):
         generators = own_generators()
@@ -270,6 +293,23 @@ class StatementsTest(unittest.TestCase):
                     base = base.func if isinstance(base, ast.Call) else base.value
                 self.assertNotIn(getattr(base, "id", None), over, where(stem, node))
 
+    def test_what_a_loop_goes_over_has_no_other_name_that_is_changed_in_it(self):
+        for stem, function in functions():
+            same = {}
+            for node in ast.walk(function):
+                if isinstance(node, ast.Assign) and isinstance(node.value, ast.Name):
+                    for target in node.targets:
+                        if isinstance(target, ast.Name):
+                            names = same.get(target.id, {target.id}) | same.get(node.value.id, {node.value.id})
+                            same.update({name: names for name in names})
+            for loop in [node for node in ast.walk(function) if isinstance(node, ast.For)]:
+                over = {node.id for node in ast.walk(loop.iter) if isinstance(node, ast.Name)}
+                if isinstance(loop.iter, ast.Call) and getattr(loop.iter.func, "id", "") in ("list", "sorted"):
+                    continue
+                changed = {base_name(node) for part in loop.body for node in ast.walk(part)} - {None}
+                for name in over:
+                    self.assertFalse(same.get(name, {name}) & changed, where(stem, loop))
+
     def test_calls_with_stars(self):
         for stem, node in nodes(ast.Call):
             self.assertFalse([part for part in node.args if isinstance(part, ast.Starred)], where(stem, node))
@@ -289,9 +329,11 @@ class OperatorsTest(unittest.TestCase):
 
     def reached(self):
         """The functions and methods that operators and properties run, by their names."""
+        in_classes = {part for _, node in nodes(ast.ClassDef) for part in node.body}
         by_name = {}
+        methods = {}
         for stem, node in functions():
-            by_name.setdefault(node.name, []).append((stem, node))
+            (methods if node in in_classes else by_name).setdefault(node.name, []).append((stem, node))
         inits = {node.name: [(stem, part) for part in node.body if getattr(part, "name", "") == "__init__"]
                  for stem, node in nodes(ast.ClassDef)}
         work = []
@@ -305,10 +347,12 @@ class OperatorsTest(unittest.TestCase):
             if node in found:
                 continue
             found[node] = stem
+            own = {name for _, name in bound_names(node)} - {node.name}
             for part in ast.walk(node):
-                name = getattr(part, "id", getattr(part, "attr", None))
-                work.extend(by_name.get(name, []))
-                work.extend(inits.get(name, []))
+                if isinstance(part, ast.Name) and part.id not in own:
+                    work.extend(by_name.get(part.id, []) + inits.get(part.id, []))
+                elif isinstance(part, ast.Attribute):
+                    work.extend(methods.get(part.attr, []))
         return found
 
     def is_fresh(self, value):
@@ -344,6 +388,46 @@ class OperatorsTest(unittest.TestCase):
                     self.assertIsInstance(node.value, ast.Constant, where(stem, node))
             for node in ast.walk(function):
                 self.check_change(stem, function, node, given)
+
+    def test_items_of_items(self):
+        """A list whose items' items are changed is only indexed, iterated, measured, copied or returned."""
+        for function, stem in self.reached().items():
+            names = {base_name(node) for node in ast.walk(function) if is_inside(node)} - {None, "self"}
+            free = set()
+            for node in ast.walk(function):
+                if isinstance(node, ast.Subscript):
+                    free.add(node.value)
+                elif isinstance(node, (ast.For, ast.comprehension)):
+                    free.add(node.iter)
+                elif isinstance(node, ast.Return):
+                    free.add(node.value)
+                elif isinstance(node, ast.Attribute) and node.attr in ("setdefault", "get", "values", "items", "append"):
+                    free.add(node.value)
+                elif isinstance(node, ast.Call) and getattr(node.func, "id", "") in ("len", "list", "enumerate"):
+                    free.update(node.args)
+                elif isinstance(node, ast.Compare):
+                    free.update(node.comparators)
+            for node in ast.walk(function):
+                if isinstance(node, ast.Name) and isinstance(node.ctx, ast.Load) and node.id in names:
+                    self.assertIn(node, free, where(stem, node))
+
+    def test_no_call_of_what_is_stored(self):
+        """A name that a class stores as an attribute is not called, neither as a method of builtin values."""
+        stored = {node.attr for _, node in nodes(ast.Attribute) if isinstance(node.ctx, ast.Store)}
+        self.assertLessEqual({"index", "count", "name"}, stored)
+        for stem, node in nodes(ast.Call):
+            if isinstance(node.func, ast.Attribute):
+                self.assertNotIn(node.func.attr, stored, where(stem, node))
+
+    def test_properties_and_static_methods_have_names_of_their_own(self):
+        stored = {node.attr for _, node in nodes(ast.Attribute) if isinstance(node.ctx, ast.Store)}
+        plain, marked = [], []
+        for stem, node in nodes(ast.ClassDef):
+            for part in node.body:
+                if isinstance(part, ast.FunctionDef):
+                    (marked if part.decorator_list else plain).append(part.name)
+        self.assertIn("atoms", marked)
+        self.assertFalse(set(marked) & (set(plain) | stored | VALUE_METHODS))
 
     def check_change(self, stem, function, node, given):
         if isinstance(node, ast.Call) and isinstance(node.func, ast.Attribute) and node.func.attr in CHANGES:
