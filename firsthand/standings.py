@@ -3,7 +3,7 @@
 from firsthand.casts import cast_of, kept_state
 from firsthand.errors import BadHistory
 from firsthand.histories import check_columns
-from firsthand.places import begun, check_end, place_done, ways_of
+from firsthand.places import begun, check_end, entry_slips, place_done, ways_of
 from firsthand.values import frozen
 
 
@@ -19,32 +19,33 @@ def start_standing(family):
 
 
 def made_further(role, maker, state, parts):
-    """Return the parts (column, cost, makers, kept, blocks) of moves with one more copy, in order."""
+    """Return the parts (column, cost, makers, kept, blocks, slips) of moves with one more copy, in order."""
     making, one, two, texts = role
     found = []
-    for column, cost, makers, kept, blocks in parts:
-        for entry, block, paid, after in ways_of(making, maker, blocks[one], blocks[two]):
+    for column, cost, makers, kept, row, slips in parts:
+        for entry, block, paid, after in ways_of(making, maker, row[one], row[two]):
             fits, told = kept_state(texts, state, block)
             if fits:
-                found.append(((*column, entry), cost + paid, (*makers, after), (*kept, told), (*blocks, block)))
+                more = (*slips, entry_slips(making, maker, entry))
+                found.append(((*column, entry), cost + paid, (*makers, after), (*kept, told), (*row, block), more))
     return found
 
 
-def moves_with_blocks(family, standing, letter):
-    """Return (column, cost, standing, blocks) for all that can happen at the next place, in order."""
+def full_moves(family, standing, letter):
+    """Return (column, cost, standing, blocks, slips) for all that can happen at the next place, in order."""
     makers, states = standing
     cast = cast_of(family)
     fits, told = kept_state(cast[0][3], states[0], letter)
-    parts = [((), 0, (), (told,), (letter,))] if fits else []
+    parts = [((), 0, (), (told,), (letter,), (0,))] if fits else []
     for role, maker, state in zip(cast[1:], makers, states[1:]):
         parts = made_further(role, maker, state, parts)
-    return [(column, cost, (made, kept), blocks) for column, cost, made, kept, blocks in parts]
+    return [(column, cost, (made, kept), row, slips) for column, cost, made, kept, row, slips in parts]
 
 
 def moves(family, standing, letter):
     """Return all that can happen at the next place if its letter is this one."""
-    found = moves_with_blocks(family, frozen(standing), letter)
-    return tuple([(column, cost, after) for column, cost, after, blocks in found])
+    found = full_moves(family, frozen(standing), letter)
+    return tuple([(column, cost, after) for column, cost, after, row, slips in found])
 
 
 def follow(family, standing, letter, column):

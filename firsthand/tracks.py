@@ -1,8 +1,7 @@
 """Tracks: standings with the marks of a claim."""
 
 from firsthand.marks import items_after, mark_holds, mark_start, pointed_atoms
-from firsthand.places import column_slips
-from firsthand.standings import is_end, moves_with_blocks, start_standing
+from firsthand.standings import full_moves, is_end, start_standing
 from firsthand.values import frozen
 
 
@@ -17,8 +16,7 @@ def track_moves(family, claim, track, letter):
     standing, mark = frozen(track)
     atoms = pointed_atoms(family, claim)
     found = []
-    for column, cost, after, row in moves_with_blocks(family, standing, letter):
-        slips = column_slips(family, standing, column)
+    for column, cost, after, row, slips in full_moves(family, standing, letter):
         found.append((column, cost, (after, items_after(atoms, mark, row, slips, cost))))
     return tuple(found)
 

@@ -74,6 +74,11 @@ class RangeTest(unittest.TestCase):
         self.assertEqual(slip_range(FAMILY, "x", supposed=Claim.costs(7)), (0, 7))
         self.assertEqual(cost_range(FAMILY, supposed=Claim.slips("x", 3) & ~Claim.slips("x", 1)), (2, 4))
 
+    def test_longer_way_to_a_track_that_is_found_early(self):
+        rules = [(0, "a", "a", 0, 1), (0, "b", "b", 5, 2), (2, "a", "a", 5, 1), (1, "b", "b", 1, 3)]
+        family = Family("ab").copied("x", "first", Hand("ab", rules, [3]))
+        self.assertEqual((cost_range(family), slip_range(family, "x")), ((1, 11), (1, 3)))
+
     def test_ring_that_leads_nowhere(self):
         rules = [(0, "a", "a", 0, 0), (0, "b", "b", 1, 1), (1, "a", "a", 7, 1), (0, "b", "", 2, 2)]
         family = Family("ab").copied("x", "first", Hand("ab", rules, [0, 2]))
