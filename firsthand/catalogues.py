@@ -32,6 +32,12 @@ def check_entries(alphabet, entries):
         known.append(name)
 
 
+def check_entry(catalogue, name):
+    """Raise UnknownCopy if the catalogue has no entry of this name."""
+    if name not in [other for other, ways in catalogue.entries]:
+        raise UnknownCopy(name)
+
+
 def check_finds(alphabet, entries, finds):
     """Raise the error of the first find that does not fit."""
     known = [FIRST] + [name for name, ways in entries]
@@ -70,7 +76,6 @@ class Catalogue:
 
     def with_way(self, name, making):
         """Return the catalogue in which a copy may also have been made in this way, the last one."""
-        if name not in [other for other, ways in self.entries]:
-            raise UnknownCopy(name)
+        check_entry(self, name)
         entries = [(other, (*ways, making) if other == name else ways) for other, ways in self.entries]
         return Catalogue(self.alphabet, entries, self.finds)

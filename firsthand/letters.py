@@ -48,6 +48,11 @@ def text_order(text):
     return (len(text), text)
 
 
+def row_order(row):
+    """Return a value by which tuples of equally many texts are sorted, text by text."""
+    return tuple([text_order(text) for text in row])
+
+
 def check_alphabet(alphabet):
     """Raise BadAlphabet if the string is not an alphabet."""
     if not is_alphabet(alphabet):

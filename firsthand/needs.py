@@ -1,7 +1,8 @@
 """Which lost copies must have stood."""
 
-from firsthand.errors import NoStem, UnknownCopy
-from firsthand.stems import explaining, stem_family, stems
+from firsthand.catalogues import check_entry
+from firsthand.errors import NoStem
+from firsthand.stems import stem_family, stems
 from firsthand.walks import least_history
 
 
@@ -10,40 +11,51 @@ def stands_in(name, stem):
     return name in [other for other, number in stem]
 
 
-def need_word(stood, failed):
-    """Return the word for a copy that stood in some of the stems, or failed to."""
-    if stood and failed:
-        return "may"
-    return "must" if stood else "never"
+class Tally:
+    """Stems that explain the finds, as far as they are needed to tell how the lost copies stood in all of them."""
+
+    def __init__(self, lost):
+        self._lost = lost
+        self._noted = []
+
+    def seen(self, name, stands):
+        """Tell whether a noted stem is one in which the copy stands, or does not stand."""
+        return stands in [stands_in(name, stem) for stem in self._noted]
+
+    def learns_from(self, stem):
+        """Tell whether it makes a difference if this stem explains the finds, too."""
+        news = [name for name in self._lost if not self.seen(name, stands_in(name, stem))]
+        return not self._noted or len(news) > 0
+
+    def note(self, stem):
+        """Note a stem that explains the finds."""
+        self._noted.append(stem)
+
+    def need_of(self, name):
+        """Return how needful a lost copy is."""
+        if self.seen(name, True):
+            return "may" if self.seen(name, False) else "must"
+        return "never"
+
+    def words(self):
+        """Return the pairs (name, word) of all lost copies."""
+        if not self._noted:
+            raise NoStem()
+        return tuple([(name, self.need_of(name)) for name in self._lost])
 
 
 def needs(catalogue):
-    """Return the pairs (name, word) of all lost copies.
-
-    The search ends as soon as each of them stood in one stem and not in another.
-    """
-    lost = catalogue.lost_copies
-    stood = {}
-    failed = {}
-    explained = False
-    for stem, _ in explaining(catalogue):
-        explained = True
-        for name in lost:
-            if stands_in(name, stem):
-                stood[name] = True
-            else:
-                failed[name] = True
-        if len(stood) == len(lost) and len(failed) == len(lost):
-            break
-    if not explained:
-        raise NoStem()
-    return tuple([(name, need_word(name in stood, name in failed)) for name in lost])
+    """Return the pairs (name, word) of all lost copies."""
+    tally = Tally(catalogue.lost_copies)
+    for stem in stems(catalogue):
+        if tally.learns_from(stem) and least_history(stem_family(catalogue, stem)) is not None:
+            tally.note(stem)
+    return tally.words()
 
 
 def first_explaining(catalogue, name, stands):
     """Return the first pair of `explaining` in whose stem the copy stands, or does not stand, or None."""
-    if name not in [other for other, ways in catalogue.entries]:
-        raise UnknownCopy(name)
+    check_entry(catalogue, name)
     for stem in stems(catalogue):
         if stands_in(name, stem) == stands:
             history = least_history(stem_family(catalogue, stem))

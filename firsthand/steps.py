@@ -6,8 +6,8 @@ first one in order, and their number. Blocks, slips and costs are forgotten as
 soon as no later copy, no claim and no label needs them.
 
 A label tells more about a place: ("block", name) its block, ("slips", name) the
-slips of the copy there, and ("apart", one, two) 1 if both blocks differ and 0
-if not.
+slips of the copy there, ("apart", one, two) 1 if both blocks differ and 0 if
+not, and ("row", name, name, ..) the tuple of the blocks of all these names.
 """
 
 from firsthand.casts import cast_of, kept_state, positions
@@ -15,10 +15,18 @@ from firsthand.claims import atom_names
 from firsthand.marks import items_after, pointed_atoms
 from firsthand.places import entry_slips, ways_of
 
+# The atomic claims and labels that need the blocks of their names after all copies were made.
+BLOCK_KINDS = ("lies", "reads", "apart", "shows", "block", "row")
+
+
+def pointed_at(atom):
+    """Return the positions in an atomic claim or a label."""
+    return atom[1:] if atom[0] == "row" else atom_names(atom)
+
 
 def asked_of(atoms, kinds):
     """Return a dict of the positions in the atomic claims and labels of these kinds."""
-    return {at: True for atom in atoms if atom[0] in kinds for at in atom_names(atom)}
+    return {at: True for atom in atoms if atom[0] in kinds for at in pointed_at(atom)}
 
 
 def last_uses(cast, asked):
@@ -39,6 +47,8 @@ def shown(label, row, slips):
         return row[label[1]]
     if label[0] == "slips":
         return slips[label[1]]
+    if label[0] == "row":
+        return tuple([row[at] for at in label[1:]])
     return 0 if row[label[1]] == row[label[2]] else 1
 
 
@@ -53,7 +63,7 @@ class Steps:
         self._atoms = atoms
         self._label = None if label is None else (label[0],) + tuple([places[name] for name in label[1:]])
         told = list(atoms) if label is None else [*atoms, self._label]
-        self._last = last_uses(self._cast, asked_of(told, ("lies", "reads", "apart", "shows", "block")))
+        self._last = last_uses(self._cast, asked_of(told, BLOCK_KINDS))
         self._counted = asked_of(told, ("slips",))
         self._by_cost = by_cost
         self._priced = by_cost or "costs" in [atom[0] for atom in atoms]

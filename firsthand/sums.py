@@ -3,8 +3,6 @@
 What is added is the cost or the label of the arcs, the part with this index.
 """
 
-from heapq import heappop, heappush
-
 from firsthand.determining import nodes_before
 from firsthand.graphs import AFTER, full_numbers, history_by
 
@@ -19,19 +17,22 @@ def arcs_before(graph, part):
 
 
 def least_rests(graph, part):
-    """Return for each track the least sum with which it goes on to a full track, or None if it does not."""
+    """Return for each track the least sum with which it goes on to a full track, or None if it does not.
+
+    What waits is sorted into one list for each sum, and the list of the least sum is taken next.
+    """
     before = arcs_before(graph, part)
     rests = [None for track in graph.tracks]
-    queue = []
-    for number in full_numbers(graph):
-        heappush(queue, (0, number))
-    while queue:
-        rest, here = heappop(queue)
-        if rests[here] is None:
-            rests[here] = rest
-            for weight, number in before[here]:
-                if rests[number] is None:
-                    heappush(queue, (rest + weight, number))
+    waiting = {0: full_numbers(graph)}
+    while waiting:
+        rest = min(list(waiting))
+        taken = list(waiting.pop(rest))
+        for here in taken:
+            if rests[here] is None:
+                rests[here] = rest
+                for weight, number in before[here]:
+                    if rests[number] is None:
+                        waiting.setdefault(rest + weight, []).append(number)
     return rests
 
 

@@ -3,11 +3,14 @@
 import unittest
 
 from firsthand.claims import Claim
+from firsthand.collations import history_showing, told_blocks
 from firsthand.errors import AlphabetsDiffer, NoHistory, UnknownCopy
 from firsthand.excess import excess
 from firsthand.families import Family
 from firsthand.finds import fewest_finds, needless_finds
 from firsthand.hands import Hand
+from firsthand.keeping import fewest_telling, indispensable
+from firsthand.odds import mean_slips, odds, reading_odds
 from firsthand.possible import history_with, possible
 from firsthand.prices import cheapest_history, is_price_table, least_cost, prices
 from firsthand.profiles import cost_profile, cost_range, slip_range
@@ -16,10 +19,12 @@ from firsthand.rebuilding import apparatus, rebuilt
 from firsthand.setmaking import everything, exactly, nothing
 from firsthand.settling import decides, settling
 from firsthand.sureness import least_apart, sure_equal, sure_text
+from firsthand.tellings import is_telling_table, telling
 from firsthand.verdicts import is_verdict_table, verdict
 from firsthand.walks import (
     count_histories, histories, is_closed, is_refutation, least_history, reachable, refutation,
 )
+from firsthand.weights import is_weight_table, total_weight, weights
 
 FAMILY = Family("ab").copied("x", "first", Hand.of_faults("ab", [("omit", "b", 1)])).found("x", exactly("ab", ["a"]))
 NONE_LEFT = FAMILY.found("first", nothing("ab"))
@@ -42,6 +47,9 @@ ASKS = {
     is_price_table: lambda f, names, claim, supposed: is_price_table(f, (), 0, supposed=supposed),
     cost_profile: lambda f, names, claim, supposed: cost_profile(f, places=2, supposed=supposed),
     cost_range: lambda f, names, claim, supposed: cost_range(f, supposed=supposed),
+    weights: lambda f, names, claim, supposed: weights(f, spread=9, supposed=supposed),
+    total_weight: lambda f, names, claim, supposed: total_weight(f, spread=9, supposed=supposed),
+    is_weight_table: lambda f, names, claim, supposed: is_weight_table(f, (), spread=9, supposed=supposed),
 }
 NAMED = {
     possible: lambda f, names, claim, supposed: possible(f, *names, supposed=supposed),
@@ -55,10 +63,18 @@ NAMED = {
     slip_range: lambda f, names, claim, supposed: slip_range(f, *names, supposed=supposed),
     settling: lambda f, names, claim, supposed: settling(f, *names, claim, supposed=supposed),
     decides: lambda f, names, claim, supposed: decides(f, *names, claim, supposed=supposed),
+    reading_odds: lambda f, names, claim, supposed: reading_odds(f, *names, 0, spread=9, supposed=supposed),
+    mean_slips: lambda f, names, claim, supposed: mean_slips(f, *names, spread=9, supposed=supposed),
+    history_showing: lambda f, names, claim, supposed: history_showing(f, names, (), supposed=supposed),
 }
 TWO_NAMES = {
     sure_equal: lambda f, names, claim, supposed: sure_equal(f, *names, supposed=supposed),
     least_apart: lambda f, names, claim, supposed: least_apart(f, *names, supposed=supposed),
+    told_blocks: lambda f, names, claim, supposed: told_blocks(f, names[:1], (), told=names[1], supposed=supposed),
+    telling: lambda f, names, claim, supposed: telling(f, names[:1], told=names[1], supposed=supposed),
+    is_telling_table: lambda f, names, claim, supposed: is_telling_table(f, names[:1], (), told=names[1], supposed=supposed),
+    fewest_telling: lambda f, names, claim, supposed: fewest_telling(f, names[:1], told=names[1], supposed=supposed),
+    indispensable: lambda f, names, claim, supposed: indispensable(f, names[:1], told=names[1], supposed=supposed),
 }
 JUDGING = {
     verdict: lambda f, names, claim, supposed: verdict(f, claim, supposed=supposed),
@@ -66,10 +82,11 @@ JUDGING = {
     fewest_finds: lambda f, names, claim, supposed: fewest_finds(f, claim, supposed=supposed),
     needless_finds: lambda f, names, claim, supposed: needless_finds(f, claim, supposed=supposed),
     excess: lambda f, names, claim, supposed: excess(f, claim, supposed=supposed),
+    odds: lambda f, names, claim, supposed: odds(f, claim, spread=9, supposed=supposed),
     settling: NAMED[settling],
     decides: NAMED[decides],
 }
-NEED_A_HISTORY = (sure_text, sure_equal, least_apart, excess, rebuilt, apparatus, slip_range, cost_range)
+NEED_A_HISTORY = (sure_text, sure_equal, least_apart, excess, rebuilt, apparatus, slip_range, cost_range, odds, mean_slips)
 
 
 class AskingTest(unittest.TestCase):
@@ -118,7 +135,7 @@ class AskingTest(unittest.TestCase):
         for (function, ask), names in self.everything:
             for supposed in (None, Claim.costs(0) | Claim.reads("x", 0, "")):
                 one, two = [ask(FAMILY, names, FINE, supposed) for _ in range(2)]
-                if function is verdict:
+                if function in (verdict, telling):
                     one, two = vars(one), vars(two)
                 self.assertEqual(one, two)
 

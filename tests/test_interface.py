@@ -80,6 +80,62 @@ FUNCTIONS = {
         "stems(catalogue)", "is_stem(catalogue, stem)", "stem_family(catalogue, stem)", "explaining(catalogue)",
     ],
     "needs": ["needs(catalogue)", "with_copy(catalogue, name)", "without_copy(catalogue, name)"],
+    "stempapers": [
+        "stem_refutations(catalogue, *, without=None)", "are_stem_refutations(catalogue, pairs, *, without=None)",
+    ],
+    "choosing": ["fewest_lost(catalogue)", "cheapest_stem(catalogue)", "catalogue_verdict(catalogue, claim)"],
+    "collations": [
+        "collation_of(family, history, names)", "history_showing(family, names, collation, *, supposed=None)",
+        "told_blocks(family, names, collation, *, told='first', supposed=None)",
+    ],
+    "tellings": [
+        "telling(family, names, *, told='first', supposed=None)",
+        "is_telling_table(family, names, table, *, told='first', supposed=None)",
+    ],
+    "keeping": [
+        "fewest_telling(family, names, *, told='first', supposed=None)",
+        "indispensable(family, names, *, told='first', supposed=None)",
+    ],
+    "likeness": ["compare_families(one, two, names)", "is_likeness_table(one, two, names, table)"],
+    "setnotes": ["format_set(texts)", "parse_set(string)"],
+    "handnotes": ["format_hand(hand)", "parse_hand(string)"],
+    "familynotes": ["format_family(family)", "parse_family(string)"],
+    "historynotes": ["format_history(history)", "parse_history(string)"],
+    "claimnotes": ["format_claim(claim)", "parse_claim(string)"],
+    "scribes": [
+        "rehanded(family, names, hand)", "explains(family, names, faults, choice, *, limit=None, supposed=None)",
+    ],
+    "habits": [
+        "least_choices(family, names, faults, *, limit=None, supposed=None)",
+        "greatest_failures(family, names, faults, *, limit=None, supposed=None)",
+        "habits(family, names, faults, *, limit=None, supposed=None)",
+    ],
+    "habitpapers": [
+        "habit_refutations(family, names, faults, *, limit=None, supposed=None)",
+        "are_habit_refutations(family, names, faults, good, pairs, *, limit=None, supposed=None)",
+    ],
+    "weights": [
+        "weights(family, *, spread, fade=2, supposed=None)", "total_weight(family, *, spread, fade=2, supposed=None)",
+        "is_weight_table(family, table, *, spread, fade=2, supposed=None)",
+    ],
+    "odds": [
+        "odds(family, claim, *, spread, fade=2, supposed=None)",
+        "reading_odds(family, name, place, *, spread, fade=2, supposed=None)",
+        "mean_slips(family, name, *, spread, fade=2, supposed=None)",
+    ],
+    "chronicles": ["bonds(family, chronicle, *, gap=1)"],
+    "datings": [
+        "dating(family, chronicle, *, gap=1)", "is_dating(family, chronicle, years, *, gap=1)",
+        "is_ring(family, chronicle, ring, *, gap=1)",
+    ],
+    "years": [
+        "year_range(family, chronicle, name, *, gap=1)", "sure_gap(family, chronicle, one, two, *, gap=1)",
+        "sure_chain(family, chronicle, one, two, *, gap=1)", "sure_order(family, chronicle, *, gap=1)",
+    ],
+    "datedstems": [
+        "dated_explaining(catalogue, chronicle, *, gap=1)", "dated_needs(catalogue, chronicle, *, gap=1)",
+        "undatable(catalogue, chronicle, *, gap=1)",
+    ],
 }
 
 METHODS = {
@@ -125,11 +181,17 @@ CLASS_METHODS = {("hands", "Hand"): ["faithful", "of_faults"], ("claims", "Claim
 
 STATIC_METHODS = {("claims", "Claim"): ["lies", "reads", "apart", "slips", "costs", "shows"]}
 
-ANSWERS = [("inclusions", "Inclusion"), ("partings", "Parting"), ("confusions", "Confusion"), ("verdicts", "Verdict")]
+# The fields of the objects that functions return.
+ANSWERS = {
+    ("inclusions", "Inclusion"): "inside text table", ("partings", "Parting"): "same row holder table",
+    ("confusions", "Confusion"): "tells one two table", ("verdicts", "Verdict"): "word keeping breaking table",
+    ("tellings", "Telling"): "always collation place one two table",
+    ("likeness", "Likeness"): "alike collation holder history table", ("datings", "Dating"): "possible years ring",
+}
 
 GENERATORS = [
     ("setasking", "members"), ("cuttings", "cuttings"), ("handrows", "rows_between"), ("walks", "histories"),
-    ("courses", "course"), ("stems", "stems"), ("stems", "explaining"),
+    ("courses", "course"), ("stems", "stems"), ("stems", "explaining"), ("datedstems", "dated_explaining"),
 ]
 
 
@@ -166,8 +228,11 @@ class InterfaceTest(unittest.TestCase):
                 self.assertIsInstance(vars(getattr(module_of(file), name))[word], staticmethod)
 
     def test_answers(self):
-        for file, name in ANSWERS:
-            self.assertEqual(getattr(module_of(file), name).__module__, f"firsthand.{file}")
+        for (file, name), fields in ANSWERS.items():
+            kind = getattr(module_of(file), name)
+            self.assertEqual(kind.__module__, f"firsthand.{file}")
+            made = kind(*[None for _ in fields.split()])
+            self.assertEqual(sorted(vars(made)), sorted(fields.split()))
 
     def test_generators(self):
         for file, name in GENERATORS:

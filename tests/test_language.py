@@ -10,10 +10,8 @@ PACKAGE = pathlib.Path(__file__).resolve().parent.parent / "firsthand"
 FILES = sorted(PACKAGE.glob("*.py"))
 TREES = {path.stem: ast.parse(path.read_text()) for path in FILES}
 
-LIBRARY = {
-    "heapq": {"heappush", "heappop", "heapify", "heapreplace", "heappushpop"},
-    "math": {"gcd", "lcm", "isqrt", "comb", "perm", "factorial"},
-}
+# Nothing of heapq: beside it, what `__eq__` calls could not even change the lists that it made itself.
+LIBRARY = {"math": {"gcd", "lcm", "isqrt", "comb", "perm", "factorial"}}
 BUILTINS = set("""len range enumerate zip min max sum abs sorted reversed int str bool list tuple dict set isinstance
     ord repr any all divmod Exception ValueError TypeError KeyError IndexError LookupError ZeroDivisionError
     ArithmeticError OverflowError RuntimeError NotImplementedError AttributeError NotImplemented property classmethod
@@ -50,8 +48,6 @@ def base_name(node):
     """The name whose list or dict, or an item of it, is changed by the node, or None."""
     if isinstance(node, ast.Call) and isinstance(node.func, ast.Attribute) and node.func.attr in CHANGES:
         base = node.func.value
-    elif isinstance(node, ast.Call) and isinstance(node.func, ast.Name) and node.func.id in LIBRARY["heapq"]:
-        base = node.args[0]
     elif isinstance(node, ast.Subscript) and isinstance(node.ctx, (ast.Store, ast.Del)):
         base = node.value
     else:
