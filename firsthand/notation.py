@@ -12,13 +12,12 @@ LONGEST_BLOCK = 36
 
 def number_in(text, most):
     """Return the number that is written, which is at most `most`."""
-    if not is_text(DIGITS, text) or len(text) not in range(1, MOST_DIGITS + 1):
+    if not text or len(text) > MOST_DIGITS or not is_text(DIGITS, text):
         raise BadNotation(0)
-    if text[0] == "0" and len(text) > 1:
+    number = int(text)
+    if str(number) != text or number > most:
         raise BadNotation(0)
-    if int(text) > most:
-        raise BadNotation(0)
-    return int(text)
+    return number
 
 
 def block_in(text, longest):

@@ -69,9 +69,11 @@ class Twins:
 
     def further(self, twin, row):
         """Return the twins after one more place with this row, perhaps some of them several times."""
+        ones = self.rows_from(twin[0])[row]
+        others = self.rows_from(twin[1])[row]
         found = []
-        for block, left in self.rows_from(twin[0])[row]:
-            for other, right in self.rows_from(twin[1])[row]:
+        for block, left in ones:
+            for other, right in others:
                 found.append((left, right, twin[2] or block != other))
         return found
 

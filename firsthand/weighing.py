@@ -25,7 +25,7 @@ def weighed_graph(family, claim, spread, label):
     return graph
 
 
-def useful_arcs(graph):
+def weighty_arcs(graph):
     """Return for each track its arcs to tracks from which a full track is reached; other tracks weigh nothing."""
     rows = [graph.arcs_from(number) for number in range(len(graph.tracks))]
     before = nodes_before([[(None, arc[AFTER]) for arc in arcs] for arcs in rows])
@@ -45,7 +45,7 @@ def equation_of(arcs, spread, fade):
 def track_weights(graph, spread, fade):
     """Return the fraction of the weight of each track of a complete graph."""
     equations = []
-    for number, arcs in enumerate(useful_arcs(graph)):
+    for number, arcs in enumerate(weighty_arcs(graph)):
         scale, parts = equation_of(arcs, spread, fade)
         equations.append((scale, scale if graph.full(number) else 0, parts))
     return solution(equations)
@@ -54,7 +54,7 @@ def track_weights(graph, spread, fade):
 def label_sums(graph, weights, spread, fade):
     """Return for each track the sum of the weights of all ways, each times the numbers that are its labels."""
     equations = []
-    for arcs in useful_arcs(graph):
+    for arcs in weighty_arcs(graph):
         scale, parts = equation_of(arcs, spread, fade)
         base = NONE_AT_ALL
         for arc in arcs:

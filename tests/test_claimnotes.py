@@ -93,6 +93,12 @@ class BoundsTest(unittest.TestCase):
         for _ in range(10):
             string = f"not({string})"
         self.both(string, f"not({string})")
+        for kind in ("and", "or"):
+            string = "not(" * 8 + f"{kind}({kind}(costs(0)&costs(1))&costs(2))" + ")" * 8
+            self.both(string, f"not({string})")
+            string = f"{kind}(costs(3)&{kind}(costs(0)&costs(1)))"
+            string = "not(" * 8 + string + ")" * 8
+            self.both(string, f"not({string})")
         string = "not(" * 5 + "and(" * 5 + "costs(0)" + "&costs(1))" * 5 + ")" * 5
         self.both(string, f"not({string})")
 

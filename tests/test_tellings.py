@@ -77,6 +77,15 @@ class TellingTest(unittest.TestCase):
         self.assertEqual((answer.collation, answer.place), ((("b",), ("a",)), 0))
         self.assertEqual((answer.one[0], answer.two[0]), ("aa", "ba"))
 
+    def test_least_column(self):
+        """The columns are in the order of texts, not in that of the first letters."""
+        rules = [(0, "a", "c", 0, 0), (0, "b", "aa", 0, 0), (0, "b", "b", 0, 0), (0, "b", "c", 0, 0), (0, "c", "b", 0, 0), (0, "c", "aa", 0, 0)]
+        family = Family("abc").copied("x", "first", Hand("abc", rules, [0]))
+        answer = telling(family, ["x"])
+        self.assertEqual((answer.collation, answer.one[0], answer.two[0]), ((("b",),), "b", "c"))
+        later = telling(family.found("x", torn("abc", "c?*")).found("first", torn("abc", "a?*")), ["x"])
+        self.assertEqual((later.collation, later.place), ((("c",), ("b",)), 1))
+
     def test_many_columns(self):
         """The blocks differ at the first place, but the histories go on for many places."""
         family = Family("ab").copied("x", "first", Hand("ab", [(0, "a", "a", 0, 1), (0, "b", "a", 0, 1), (1, "a", "a", 0, 1)], [1]))
@@ -227,6 +236,16 @@ class TableTest(unittest.TestCase):
         left = (dead, (((0, 0), (0, None, None)), ()), False)
         self.assertNotIn(left, table)
         self.assertIs(is_telling_table(family, ["x"], table + (left,)), True)
+
+    def test_a_track_that_stands_only_at_the_second_place(self):
+        family = Family("ab").copied("x", "first", FAITHFUL).copied("y", "x", Hand.of_faults("ab", [("omit", "b", 1)], limit=1))
+        family = family.found("first", exactly("ab", ["a", "b"]))
+        table = telling(family, ["x"]).table
+        start, other = table[0][0], (((0, 1), (0, None, None)), ())
+        self.assertNotIn(other, [twin[0] for twin in table])
+        self.assertIs(is_telling_table(family, ["x"], table + ((start, other, False),)), True)
+        self.assertIs(is_telling_table(family, ["x"], table + ((other, start, False),)), True)
+        self.assertIs(is_telling_table(family, ["x"], table + ((start, other, True),)), False)
 
     def test_no_start_track(self):
         family = LOSSY.found("x", nothing("ab"))

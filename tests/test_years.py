@@ -56,6 +56,10 @@ class YearsTest(unittest.TestCase):
         self.assertEqual(sure_order(family, [("between", "z", None, 1), ("between", "x", 2, None)]),
                          (("first", "x"), ("first", "y"), ("first", "z"), ("x", "y"), ("z", "x"), ("z", "y")))
         self.assertEqual(sure_order(Family("a"), []), ())
+        # With a gap of 2 instead of 1 there were a ring.
+        near = [("after", "y", "first", -2)]
+        self.assertEqual(sure_order(CHAIN, near), (("first", "x"), ("first", "y"), ("x", "y")))
+        self.assertRaises(NoDating, lambda: sure_order(CHAIN, near, gap=2))
 
     def test_errors(self):
         for chronicle in (CHRONICLE, RING):
